@@ -183,6 +183,41 @@ func TestOne(t *testing.T) { // P3.1
 	}
 }
 
+func TestBlocksOpenAtTheEnd(t *testing.T) { // P3.1
+	c := open("{", ident("c"))
+	for _, k := range []struct {
+		in   string
+		at   int
+		want api.Node
+	}{
+		{"(a[b", 0, open("(", ident("a"), open("[", ident("b")))},
+		{"(a[b{c", 0, open("(", ident("a"), open("[", ident("b"), c))},
+		{"(a[b{c", 2, open("[", ident("b"), c)},
+		{"(a[b{c", 4, c},
+		{"(a[b{c", 5, ident("c")},
+		{"([{", 0, open("(", open("[", open("{")))},
+		{"f(g(h(", 0, function("f", function("g", function("h")))},
+		{"(a[b{c} d", 0, open("(", ident("a"), open("[", ident("b"), c, white, ident("d")))},
+		{"(a[b{c}d]e", 0, open("(", ident("a"), open("[", ident("b"), c, ident("d")), ident("e"))},
+		{"(a[b{c)", 0, open("(", ident("a"), open("[", ident("b"), open("{", ident("c"), closed(")"))))},
+	} {
+		in := tokens(k.in)
+		n, next := nest.One(in, k.at)
+		if !same(list(n), list(k.want)) || next != len(in) {
+			t.Errorf("One(%q, %d) = %v, %d, want %v, %d", k.in, k.at, n, next, k.want, len(in))
+		}
+		if got, want := nodes(","+k.in[k.at:]), list(comma, k.want); !same(got, want) {
+			t.Errorf("All(%q) = %v, want %v", ","+k.in[k.at:], got, want)
+		}
+	}
+	for k := range api.MaxDeep + 9 {
+		in := strings.Repeat("a[(f(", k)
+		if got, want := nodes(in), nodes(in+strings.Repeat("))]", k)); !same(got, want) {
+			t.Errorf("All(%q) = %v, want %v", in, got, want)
+		}
+	}
+}
+
 func TestBlocksTooDeep(t *testing.T) { // P3.1
 	for _, c := range []struct{ deep, kids int }{{30, 2}, {31, 2}, {32, 0}, {33, 0}, {34, 0}, {100, 0}, {30000, 0}} {
 		for _, in := range []string{around(c.deep, "(", "a b[{}]", ")"), around(c.deep, "f(", "a b[{}]", ")")} {

@@ -40,9 +40,10 @@ func (s *stack) pop() api.Node {
 }
 
 // add lays a node into the innermost block, if it may be so deep.
-func (s stack) add(n api.Node) {
-	if len(s) < api.MaxDeep {
-		top := &s[len(s)-1]
+func (s *stack) add(n api.Node) {
+	open := *s
+	if len(open) < api.MaxDeep {
+		top := &open[len(open)-1]
 		top.Kids = append(top.Kids, n)
 	}
 }
