@@ -424,6 +424,21 @@ func TestNobody(t *testing.T) { // P13.1
 	}
 }
 
+func TestAllOfNobody(t *testing.T) { // P13.1
+	s := sheet(t, "*{color:red} *::before{color:red}", "*,*::after,b::marker{color:blue!important}")
+	for pseudo := -1; pseudo <= 6; pseudo++ {
+		for _, s := range []*cascade.Sheet{nil, {}, cascade.New(nil, nil), s} {
+			if got := s.All(nil, pseudo); len(got) != 0 {
+				t.Errorf("All(nil, %d) = %v", pseudo, got)
+			}
+			agreesAtOnce(t, s, page(t), pseudo)
+		}
+	}
+	for _, pseudo := range []int{math.MinInt, math.MaxInt} {
+		agreesAtOnce(t, s, page(t), pseudo)
+	}
+}
+
 func TestManyTrees(t *testing.T) { // P13.1
 	s := sheet(t, "b{color:red} a b{color:blue}", "b:empty{display:none}")
 	trees := []*dom.Tree{page(t), tree(t, element(-1, "b")), tree(t, element(-1, "a"), element(0, "b"), element(1, "a")), tree(t, element(-1, "x"))}
@@ -528,6 +543,15 @@ func TestNewMemory(t *testing.T) { // P13.2
 	if got := s.Keys(x, 1, api.Self); !reflect.DeepEqual(got, keys) {
 		t.Errorf("maps are shared: %v", got)
 	}
+	everybody := s.All(x, api.Self)
+	for _, v := range everybody[3] {
+		spoilStyle(v.Style)
+	}
+	for _, got := range [][]prop.Value{everybody[1], s.All(x, api.Self)[3]} {
+		if !reflect.DeepEqual(got, before) {
+			t.Errorf("lists of all are shared:\n got %+v\nwant %+v", got, before)
+		}
+	}
 	// lists of one answer
 	for i := range two {
 		spoilStyle(two[i].Style)
@@ -578,6 +602,7 @@ func TestMuch(t *testing.T) { // P13.1: as much as there may be
 			return
 		}
 	}
+	agreesAtOnce(t, s, x, api.Before)
 	// more than a sheet of bytes may have
 	many := read(t, "b{color:red} b{quotes:none}")
 	for range 5000 {

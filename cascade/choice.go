@@ -2,6 +2,7 @@ package cascade
 
 import (
 	"iter"
+	"slices"
 
 	"fleuron/api"
 	"fleuron/dom"
@@ -49,4 +50,21 @@ func (s *Sheet) meant(t *dom.Tree, i, pseudo int) iter.Seq[choice] {
 			}
 		}
 	}
+}
+
+// aimed is the choices that may mean that pseudo-element of any node of a tree.
+func (s *Sheet) aimed(t *dom.Tree, pseudo int) []choice {
+	if s == nil {
+		return nil
+	}
+	l := slices.Clone(s.choices[target{pseudo, anyTag}])
+	seen := map[string]struct{}{anyTag: {}}
+	for i := range t.Len() {
+		n, _ := t.Node(i)
+		if _, ok := seen[n.Tag]; !ok {
+			seen[n.Tag] = struct{}{}
+			l = append(l, s.choices[target{pseudo, n.Tag}]...)
+		}
+	}
+	return l
 }

@@ -200,6 +200,9 @@ func TestSomeOfAllKinds(t *testing.T) { // P13.1
 				agrees(t, s, w, x, i, pseudo, &n)
 			}
 		}
+		for pseudo := -1; pseudo <= 6; pseudo++ {
+			agreesAtOnce(t, s, x, pseudo)
+		}
 		if t.Failed() {
 			t.Fatalf("table: %v, agent: %s, author: %s", raw, texts[0], texts[1])
 		}
@@ -236,5 +239,19 @@ func agrees(t *testing.T, s *cascade.Sheet, w words, x *dom.Tree, i, pseudo int,
 	}
 	for _, k := range keys {
 		n.origins[k.Origin]++
+	}
+}
+
+// agreesAtOnce holds what All tells against Won.
+func agreesAtOnce(t *testing.T, s *cascade.Sheet, x *dom.Tree, pseudo int) {
+	t.Helper()
+	all := s.All(x, pseudo)
+	if len(all) != x.Len() {
+		t.Fatalf("All(%d) is of %d nodes", pseudo, len(all))
+	}
+	for i, got := range all {
+		if want := s.Won(x, i, pseudo); !reflect.DeepEqual(got, want) {
+			t.Errorf("All(%d)[%d]:\n got %+v\nwant %+v", pseudo, i, got, want)
+		}
 	}
 }
